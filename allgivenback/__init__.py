@@ -1,0 +1,1 @@
+"""Allgivenback: memory that is given out, kept apart and given back."""
