@@ -37,11 +37,12 @@ def check_wrong(test, call, good, bad, named=()):
     """Checks that each wrong argument is told, alone and with wrong ones behind it.
 
     good holds the right arguments in the order of the signature, bad the wrong values of those that are checked,
-    and named the arguments that are passed by name.
+    and named the arguments that are passed by name. A right integer is also tried as a float.
     """
     for number, parameter in enumerate(good):
         later = {name: bad[name][0] for name in list(good)[number + 1:] if name in bad}
-        for value in bad.get(parameter, ()):
+        floats = (float(good[parameter]),) if type(good[parameter]) is int else ()
+        for value in tuple(bad[parameter]) + floats if parameter in bad else ():
             for others in ({}, later):
                 values = {**good, parameter: value, **others}
                 rows = [values[name] for name in good if name not in named]

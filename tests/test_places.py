@@ -239,7 +239,8 @@ class SearchTest(unittest.TestCase):
 
     def test_wrong(self):
         places = Places([(0, 9)])
-        for call in (places.first_start, places.best_start):
+        empty = Places()
+        for call in (places.first_start, places.best_start, empty.first_start, empty.best_start):
             check_wrong(
                 self, call, {"size": 2, "align": 2},
                 {"size": no_integer_in(1, MOST), "align": no_align_upto(MOST_ALIGN)}, named=("align",))
