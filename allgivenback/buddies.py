@@ -1,16 +1,16 @@
 """The buddies: they part the zones into blocks, give blocks out and join them again."""
 
-from allgivenback.basics import MAGIC, MAP, NOBODY, NoRoom, StoreError, Unknown, is_holder, is_whole
+from allgivenback.basics import MAGIC, MAP, NOBODY, NoRoom, Unknown, is_holder, is_whole
 from allgivenback.checks import is_flag, is_row, is_word, need, need_whole
 from allgivenback.covers import is_cover, least_cover
+from allgivenback.deeds import as_deed, need_held
 from allgivenback.ground import Ground
 from allgivenback.images import MOST_PAGES
-from allgivenback.layout import MOST_ZONES, ROW_WORDS, has_map, map_pages, row_place, zone_place, zone_words
+from allgivenback.layout import FREE_CODE, GIVEN_CODE, MOST_ZONES, ROW_WORDS, has_map, map_pages, row_place
+from allgivenback.layout import zone_place, zone_words
 from allgivenback.places import Places
 from allgivenback.spans import MOST_ORDER, align_down, blocks_of
 
-FREE_CODE = 1
-GIVEN_CODE = 21
 MOST_LABEL = 999
 
 
@@ -47,21 +47,19 @@ def first_map_words(ground, zones):
     return words
 
 
+def write_map(ground, zones):
+    """Writes the map of a ground that is all nobody's; it does not cancel what it did before a refusal."""
+    # Nobody's places are also looked at for words that are not fill.
+    need_held(ground, 0, ground.top, NOBODY)
+    ground.pass_on(0, ground.width * map_pages(ground.pages, ground.width, len(zones)), NOBODY, MAP)
+    ground.write_row(0, first_map_words(ground, zones), MAP)
+
+
 def start_buddies(ground, zones):
     """Writes the map of a ground that is all nobody's, and returns its Buddies."""
     need(isinstance(ground, Ground), "ground")
     need(zones_fit_in(ground, zones), "zones")
-    ground.begin()
-    try:
-        # Passing everything from nobody to nobody changes nothing, but refuses a ground that is not as it must be.
-        ground.pass_on(0, ground.top, NOBODY, NOBODY)
-        ground.pass_on(0, ground.width * map_pages(ground.pages, ground.width, len(zones)), NOBODY, MAP)
-        for place, word in enumerate(first_map_words(ground, zones)):
-            ground.write(place, word, MAP)
-    except StoreError:
-        ground.cancel()
-        raise
-    ground.commit()
+    as_deed(ground, lambda: write_map(ground, zones))
     return Buddies(ground)
 
 
@@ -97,17 +95,15 @@ class Buddies:
         need(is_flag(urgent), "urgent")
         page, whole = self._find(order, zone, urgent)
         span = (page * self.ground.width, self.ground.width << order)
-        self.ground.begin()
-        try:
-            self.ground.pass_on(span[0], span[1], NOBODY, keeper)
-            self._split(page, whole, order)
-            self._set_word(page, 0, GIVEN_CODE + order)
-            self._set_word(page, 1, label)
-        except StoreError:
-            self.ground.cancel()
-            raise
-        self.ground.commit()
+        as_deed(self.ground, lambda: self._serve(page, whole, order, label, keeper))
         return span
+
+    def _serve(self, page, whole, order, label, keeper):
+        """Gives the lower end of a free block to the keeper."""
+        self.ground.pass_on(page * self.ground.width, self.ground.width << order, NOBODY, keeper)
+        self._split(page, whole, order)
+        self._set_word(page, 0, GIVEN_CODE + order)
+        self._set_word(page, 1, label)
 
     def _find(self, order, zone, urgent):
         """The first page and the order of the free block that serves; NoRoom if none does."""
@@ -147,17 +143,14 @@ class Buddies:
         if block is None or block[0] * self.ground.width != start:
             raise Unknown("start")
         page, order, _ = block
-        span = (start, self.ground.width << order)
-        self.ground.begin()
-        try:
-            self.ground.pass_on(start, span[1], keeper, NOBODY)
-            self._clear_rows(page, order)
-            self._join(page, order)
-        except StoreError:
-            self.ground.cancel()
-            raise
-        self.ground.commit()
-        return span
+        as_deed(self.ground, lambda: self._free(page, order, keeper))
+        return (start, self.ground.width << order)
+
+    def _free(self, page, order, keeper):
+        """Makes a given block of the keeper free."""
+        self.ground.pass_on(page * self.ground.width, self.ground.width << order, keeper, NOBODY)
+        self._clear_rows(page, order)
+        self._join(page, order)
 
     def _clear_rows(self, page, order):
         """Sets the map rows of a block to zeros."""

@@ -28,3 +28,19 @@ def is_row(value):
 def is_word(value):
     """True if the value is an integer that a place can hold."""
     return is_whole(value) and 0 <= value <= MOST_WORD
+
+
+def is_paper(value, word, count):
+    """True if the value is a tuple of so many values, of which the first is the word."""
+    return isinstance(value, tuple) and len(value) == count and is_exactly(value[0], word)
+
+
+def is_exactly(value, due):
+    """True if the value is the same as the one due, which consists of tuples, texts and integers."""
+    if isinstance(due, tuple):
+        if not isinstance(value, tuple) or len(value) != len(due):
+            return False
+        return all([is_exactly(one, other) for one, other in zip(value, due)])
+    if isinstance(due, str):
+        return isinstance(value, str) and value == due
+    return is_whole(value) and value == due

@@ -87,6 +87,15 @@ class Ground:
         self._change(place, word, holder)
         self.commit()
 
+    def write_row(self, start, words, holder):
+        """Changes the words from a place of the holder on, as many as there are; nothing is checked but the holder."""
+        end = start + len(words)
+        self._need_held(start, end, holder)
+        self.begin()
+        for place, word in enumerate(words, start=start):
+            self._change(place, word, holder)
+        self.commit()
+
     def poke(self, place, word):
         """Changes the word of any place, past all guards."""
         self._need_place(place)

@@ -3,9 +3,12 @@
 from allgivenback.basics import MAGIC, MAP
 from allgivenback.checks import need, need_whole
 from allgivenback.images import MOST_PAGES, is_image, is_width
+from allgivenback.spans import MOST_ORDER
 
 MOST_ZONES = 4
 ROW_WORDS = 4
+FREE_CODE = 1
+GIVEN_CODE = 21
 
 
 def row_place(zones, page):
@@ -76,3 +79,26 @@ def read_rows(image):
     need(has_map(image), "image")
     words = image[2]
     return rows_from(words, row_place(words[1], 0), len(words) // image[0])
+
+
+def is_block(page, order, pages):
+    """True if a ground of so many pages can have a block of the order from the page on."""
+    return 0 <= order <= MOST_ORDER and page % (1 << order) == 0 and page + (1 << order) <= pages
+
+
+def given_in(image, label):
+    """A list of tuples (page, order) of the given blocks with the label, ascending, of an image with a map."""
+    words = image[2]
+    pages = len(words) // image[0]
+    base = row_place(words[1], 0)
+    end = base + ROW_WORDS * pages
+    rows = zip(range(pages), words[base:end:ROW_WORDS], words[base + 1:end:ROW_WORDS])
+    blocks = [(page, code - GIVEN_CODE) for page, code, found in rows if found == label]
+    # The judges are also asked of damaged maps, so what cannot be a block there is left out.
+    return [(page, order) for page, order in blocks if is_block(page, order, pages)]
+
+
+def notes_in(image, page):
+    """The two notes of a page in an image with a map."""
+    place = row_place(image[2][1], page)
+    return image[2][place + 2:place + ROW_WORDS]

@@ -4,15 +4,15 @@ import itertools
 import random
 import unittest
 
-from allgivenback.basics import NoRoom, StoreError
+from allgivenback.basics import NoRoom
 from allgivenback.buddies import Buddies, is_no_block, start_buddies
 from allgivenback.ground import Ground, ground_of
 from allgivenback.images import is_image
 from allgivenback.layout import has_map, read_rows, read_zones
 from allgivenback.places import Places
-from tests.helpers import HUGE, NO_INTEGERS, ODD_VALUES, check_wrong, no_integer_in, told_by
+from tests.helpers import HUGE, NO_INTEGERS, ODD_VALUES, check_wrong, no_integer_in, outcome, state, told_by
 from tests.test_covers import plain_cover, plain_windows
-from tests.test_ground import NO_OWNERS, state
+from tests.test_ground import NO_OWNERS
 from tests.test_images import NO_WORDS
 from tests.test_layout import NO_MAPS, plain_map_pages
 
@@ -172,14 +172,6 @@ def bent_papers(paper):
             rows += [(*row[:2], odd) for odd in covers]
         bent += [paper[:at] + (odd,) + paper[at + 1:] for odd in rows]
     return bent
-
-
-def outcome(call, *values, **named):
-    """What a call returns or what its refusal tells."""
-    try:
-        return call(*values, **named)
-    except StoreError as error:
-        return error.told
 
 
 class StartTest(unittest.TestCase):

@@ -8,16 +8,11 @@ from allgivenback.basics import Cut, StoreError
 from allgivenback.ground import Ground, ground_of
 from allgivenback.images import is_image
 from allgivenback.places import Places
-from tests.helpers import HUGE, NO_INTEGERS, check_wrong, no_integer_in, told_by
+from tests.helpers import HUGE, NO_INTEGERS, check_wrong, no_integer_in, state, told_by
 from tests.test_images import HOLDERS, NO_HOLDERS, NO_IMAGES, NO_WORDS, blank
 
 NO_BUDGETS = tuple(value for value in no_integer_in(0, 1000000000) if value is not None)
 NO_OWNERS = (0,) + NO_HOLDERS
-
-
-def state(ground):
-    """All that can be read of a ground."""
-    return (ground.image(), ground.spent, ground.budget, ground.depth, ground.pages, ground.width, ground.fill)
 
 
 class PlainGround:
@@ -157,6 +152,16 @@ class GuardTest(unittest.TestCase):
                 self, self.ground.write, {"place": 3, "word": 5, "holder": good},
                 {"place": no_places, "word": NO_WORDS, "holder": NO_OWNERS})
         check_wrong(self, self.ground.held_by, {"holder": 0}, {"holder": NO_HOLDERS})
+        self.assertEqual(state(self.ground), before)
+
+    def test_write_row(self):
+        self.ground.write_row(3, (7, 8, 9), 1)
+        self.assertEqual(self.ground.image()[2][2:8], (5, 7, 8, 9, 5, 5))
+        before = state(self.ground)
+        self.assertEqual(told_by(self.ground.write_row, 5, (1, 2, 3), 1), ("NotHeld", (7, 28)))
+        self.ground.budget = 1
+        self.assertEqual(told_by(self.ground.write_row, 3, (1, 2), 1), ("Cut", (2, 1)))
+        self.ground.budget = None
         self.assertEqual(state(self.ground), before)
 
     def test_poke(self):
