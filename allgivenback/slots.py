@@ -60,9 +60,9 @@ def class_align(size):
 def class_order(width, size):
     """The order of the slabs of a size class: the least one with at least two slots."""
     need(is_width(width), "width")
-    need(is_whole(size) and size in SIZES, "size")
+    align = class_align(size)
     order = 0
-    while not has_slots(slab_shape(width, order, size, class_align(size))):
+    while not has_slots(slab_shape(width, order, size, align)):
         order = order + 1
     return order
 

@@ -6,7 +6,7 @@ import unittest
 from allgivenback.buddies import Buddies, start_buddies
 from allgivenback.drawers import Drawers, is_no_drawer
 from allgivenback.ground import Ground, ground_of
-from tests.helpers import ODD_VALUES, bendings, check_wrong, is_refusal, no_align_upto, no_integer_in, play
+from tests.helpers import ODD_VALUES, bendings, check_wrong, is_refusal, no_align_upto, no_integer_in, outcome, play
 from tests.helpers import state, told_by
 from tests.models import PlainDrawers, PlainMap
 from tests.test_buddies import NO_FLAGS
@@ -267,9 +267,25 @@ class PaperTest(Base):
         self.assertGreater(wrong, 100)
         self.assertIs(is_no_drawer(self.image, self.paper, zone=2), True)
 
+    def test_left_out(self):
+        ground = Ground(28, 16)
+        drawers, same = Drawers(start_buddies(ground, [(6, 0, 0), (2, 0, 1)])), Drawers(
+            Buddies(ground), lot=2, spare=1, zone=1)
+        spans = [drawers.take(3, 1) for _ in range(9)]
+        self.assertEqual(len(same.starts_in(1, 2)), 1)
+        for span in spans:
+            drawers.give_back(span[0], 1)
+        same.flush(1)
+        self.assertEqual(len(Buddies(ground).given(102)), 1)
+        for _ in range(18):
+            drawers.take(3, 1)
+        told = outcome(drawers.take, 3, 1)
+        self.assertEqual(told[1][0][2][3], ((1, "few", 0),))
+        self.assertIs(is_no_drawer(ground.image(), told[1][0]), True)
+
     def test_labels_and_classes(self):
         inner = self.paper[2]
-        for number in range(6):
+        for number in range(8):
             for label in (100 + number, 100, 104, 7):
                 paper = ("drawers", number, ("slots", label, tuple(self.plain.buddies.pages_of(label)), inner[3]))
                 self.assertIs(is_no_drawer(self.image, paper, zone=2), self.plain.is_paper(paper, 2, False), paper)

@@ -169,6 +169,47 @@ class TakeTest(Base):
                 extents.shrink()
         self.assertEqual(state(self.ground)[0], before[0])
 
+    def test_left_out(self):
+        ground = Ground(48, 16)
+        extents = Extents(start_buddies(ground, [(34, 0, 0), (1, 0, 1)]), 200)
+        start = ground.image()
+        span = extents.take(1, 1)
+        self.assertEqual([span[0] // 16 % 8, len(extents.ages())], [0, 7])
+        # All arguments are also looked at where no new arena is needed.
+        check_wrong(
+            self, extents.take, {"pages": 1, "holder": 1, "align": 8, "fit": "best", "urgent": False},
+            {"fit": NO_FITS, "urgent": NO_FLAGS}, named=("align", "fit", "urgent"))
+        spans = [extents.take(2, 1), extents.take(1, 1), extents.take(1, 1), extents.take(2, 1), extents.take(1, 1)]
+        extents.give_back(spans[0][0], 1)
+        extents.give_back(spans[2][0], 1)
+        self.assertEqual(extents.take(1, 1), spans[2])
+        for row in extents.handed():
+            extents.give_back(row[0], 1)
+        for _ in range(3):
+            self.assertEqual(extents.tick(), [])
+        self.assertEqual(extents.tick(), [span[0] // 16])
+        self.assertEqual(ground.image(), start)
+        for _ in range(3):
+            extents.take(8, 1)
+        told = outcome(extents.take, 8, 1)
+        self.assertEqual([told[0], told[1][0][3][0][:2]], ["NoRoom", (1, "held")])
+        self.assertEqual(told[1][0][2], ((16, 40, (23, 31, 39)),))
+        paper = ("extents", 200, ((16, 40, (23, 31, 39)),), told[1][0][3])
+        self.assertIs(is_no_extent(ground.image(), paper, 8), True)
+        # Of the windows of eight pages, this cover misses only the one from page 23 on.
+        paper = ("extents", 200, ((16, 40, (22, 31, 39)),), told[1][0][3])
+        self.assertIs(is_no_extent(ground.image(), paper, 8), False)
+        self.assertIs(is_no_extent(ground.image(), paper, 8, align=2), True)
+
+    def test_kept_pages(self):
+        ground = Ground(48, 16)
+        buddies = start_buddies(ground, [(34, 30, 0)])
+        extents = Extents(buddies, 200)
+        told = outcome(extents.take, 8, 1)
+        self.assertEqual(told, ("NoRoom", (("extents", 200, (), ((1, "few", 34),)),)))
+        self.assertIs(is_no_extent(ground.image(), told[1][0], 8), True)
+        self.assertIs(is_no_extent(ground.image(), told[1][0], 8, urgent=True), False)
+
     def test_zone_and_urgent(self):
         self.make(zones=((3, 0, 0), (4, 2, 1)), order=0, zone=2)
         spans = [self.play("take", 1, 1) for _ in range(5)]

@@ -61,6 +61,24 @@ class MakingTest(unittest.TestCase):
         self.assertEqual(make(15, maker=(1,) * 15), ("BadValue", ("size",)))
         self.assertEqual(make(15, ender=(1,) * 16), ("BadValue", ("ender",)))
 
+    def test_left_out(self):
+        ground = self.buddies.ground
+        cache, same = Cache(self.buddies, 5, 3), Cache(
+            self.buddies, 5, 3, align=1, order=0, spare=1, zone=1, maker=None, ender=None)
+        starts = [cache.take(1)[0] for _ in range(9)]
+        page = starts[0] // 16
+        self.assertEqual(starts[:3], [page * 16 + 1 + page % 4 + 4 * k for k in range(3)])
+        self.assertEqual(same.starts_of(1), sorted(starts))
+        for start in starts[:6]:
+            cache.give_back(start, 1)
+        self.assertEqual([taken for _, taken in same.slabs()], [0, 3])
+        full = start_buddies(Ground(24, 16), [(1, 0, 0), (4, 0, 1)])
+        paper = ("slots", 5, (), ((1, "few", 0),))
+        full.take(0, 6, 22)
+        self.assertEqual(told_by(Cache(full, 5, 15 - 1).take, 1), ("NoRoom", (paper,)))
+        self.assertIs(is_no_slot(full.ground.image(), paper, 14), True)
+        self.assertEqual(ground.depth, 0)
+
     def test_edges(self):
         ground = Ground(256, 64)
         buddies = start_buddies(ground, [(239, 0, 0)])
@@ -159,6 +177,9 @@ class TakeTest(unittest.TestCase):
             "taker": NO_TAKERS, "urgent": NO_FLAGS}, named=("urgent",))
         start = cache.take(1)[0]
         before = state(ground)
+        # The arguments are also looked at where no block is needed.
+        check_wrong(self, cache.take, {"taker": 1, "urgent": False}, {
+            "taker": NO_TAKERS, "urgent": NO_FLAGS}, named=("urgent",))
         no_starts = no_integer_in(0, 383)
         for good in (start, start + 1, 0, 383):
             check_wrong(self, cache.give_back, {"start": good, "giver": 2}, {"start": no_starts, "giver": NO_TAKERS})
@@ -362,7 +383,7 @@ class PaperTest(unittest.TestCase):
                     self.ground.image(), self.paper, size, align=align, order=order, zone=zone, urgent=urgent),
                     model.is_paper(self.paper, zone, urgent))
         # If the shape is None, no paper is right, but the other arguments are looked at first.
-        self.assertIs(self.judge_size(15), False)
+        self.assertIs(self.judge_size(15, zone=2), False)
         self.assertEqual(told_by(self.judge_size, 15, zone=3), ("BadValue", ("zone",)))
         self.assertEqual(told_by(self.judge_size, 15, urgent=1), ("BadValue", ("urgent",)))
 
