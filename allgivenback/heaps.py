@@ -81,7 +81,8 @@ class Heap:
     def _choose(self, fitting, fit):
         """The one of the free pieces that serve which is used."""
         if fit == "best":
-            return min(fitting, key=lambda row: (row[1], row[0]))
+            # Of several that tie, the first one is the lowest.
+            return min(fitting, key=lambda row: row[1])
         if fit == "next":
             rover = self._rover()
             ahead = [row for row in fitting if row[0] >= rover]

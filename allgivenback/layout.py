@@ -92,8 +92,9 @@ def given_in(image, label):
     pages = len(words) // image[0]
     base = row_place(words[1], 0)
     end = base + ROW_WORDS * pages
-    rows = zip(range(pages), words[base:end:ROW_WORDS], words[base + 1:end:ROW_WORDS])
-    blocks = [(page, code - GIVEN_CODE) for page, code, found in rows if found == label]
+    codes = words[base:end:ROW_WORDS]
+    labels = words[base + 1:end:ROW_WORDS]
+    blocks = [(page, codes[page] - GIVEN_CODE) for page in range(pages) if labels[page] == label]
     # The judges are also asked of damaged maps, so what cannot be a block there is left out.
     return [(page, order) for page, order in blocks if is_block(page, order, pages)]
 

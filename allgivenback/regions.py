@@ -1,6 +1,6 @@
 """Regions: items one behind the other in a bed, given back from the last one down to a mark."""
 
-from allgivenback.basics import NoRoom, REGION, Unknown, is_user, is_whole
+from allgivenback.basics import NoRoom, REGION, Unknown, is_user
 from allgivenback.beds import MOST_BED_ALIGN, need_bed, need_bed_in, need_new_bed
 from allgivenback.checks import is_exactly, need, need_whole
 from allgivenback.deeds import as_deed

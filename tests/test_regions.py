@@ -228,6 +228,12 @@ class PaperTest(Base):
             told = told_by(self.maker(ground_of(self.image)).take, wanted, 1, align=align)
             self.assertIs(self.judge(("region", 9), wanted, align=align), told == ("NoRoom", (("region", 9),)))
 
+    def test_left_out(self):
+        # The least place is 15, which is odd.
+        self.assertIs(self.judge(("region", 9), 8), False)
+        self.assertIs(self.judge(("region", 9), 8, align=2), True)
+        self.assertEqual(self.region.take(8, 1), (15, 8))
+
     def test_room_of_one(self):
         self.make(9)
         self.play("take", 6, 1)
@@ -258,6 +264,8 @@ class PaperTest(Base):
                 {"image": self.image, "start": 3, "size": 20, "paper": paper, "wanted": 9, "align": 1},
                 {"image": NO_IMAGES, "start": no_integer_in(0, 63), "size": no_integer_in(2, 61),
                  "wanted": no_integer_in(1, 16384), "align": no_align_upto(4096)}, named=("align",))
+        # The last place is a right start, but no bed has room there.
+        self.assertEqual(told_by(is_no_item, self.image, 63, 2, None, 1), ("BadValue", ("size",)))
 
 
 class RandomTest(Base):
