@@ -177,7 +177,7 @@ class TakeTest(Base):
         self.assertEqual([span[0] // 16 % 8, len(extents.ages())], [0, 7])
         # All arguments are also looked at where no new arena is needed.
         check_wrong(
-            self, extents.take, {"pages": 1, "holder": 1, "align": 8, "fit": "best", "urgent": False},
+            self, extents.take, {"pages": 1, "holder": 1, "align": 1, "fit": "best", "urgent": False},
             {"fit": NO_FITS, "urgent": NO_FLAGS}, named=("align", "fit", "urgent"))
         spans = [extents.take(2, 1), extents.take(1, 1), extents.take(1, 1), extents.take(2, 1), extents.take(1, 1)]
         extents.give_back(spans[0][0], 1)
