@@ -16,6 +16,18 @@ def as_deed(ground, work):
     return result
 
 
+def as_trial(ground, work):
+    """Does the work, takes all that it changed back and returns what it returned."""
+    ground.begin()
+    try:
+        result = work()
+    except StoreError:
+        ground.cancel()
+        raise
+    ground.cancel()
+    return result
+
+
 def need_held(ground, start, size, holder):
     """Raises NotHeld for the lowest place of the span that the holder does not hold."""
     # Passing places on to their own holder changes nothing, but looks at all of them.

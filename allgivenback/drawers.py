@@ -103,6 +103,10 @@ class Drawers:
             cache.give_back(start, drawer)
         return len(starts)
 
+    def pass_to(self, start, holder, taker):
+        """Passes a slot on to a user with its words and returns its span."""
+        return self._cache_at(start).hand_over(start, holder, taker)
+
     def flush(self, holder):
         """Gives all slots in the user's drawers back to the caches and returns their number."""
         need(is_user(holder), "holder")

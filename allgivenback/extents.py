@@ -154,6 +154,12 @@ class Extents:
         as_deed(self._ground, lambda: self._note(start // width, count))
         return (start, count * width)
 
+    def pass_to(self, start, holder, taker):
+        """Passes an extent on to a user with its words and returns its span."""
+        size = self._need_extent(start) * self._ground.width
+        self._ground.pass_on(start, size, holder, taker)
+        return (start, size)
+
     def _need_extent(self, start):
         """The number of pages of the extent that begins at the place; Unknown if none does."""
         for first, size, _ in self.handed():

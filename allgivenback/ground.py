@@ -96,6 +96,13 @@ class Ground:
             self._change(place, word, holder)
         self.commit()
 
+    def put_cells(self, cells):
+        """Changes places as the rows (place, word, holder) tell, past all guards; nothing is checked."""
+        self.begin()
+        for place, word, holder in cells:
+            self._change(place, word, holder)
+        self.commit()
+
     def poke(self, place, word):
         """Changes the word of any place, past all guards."""
         self._need_place(place)
@@ -167,6 +174,12 @@ class Ground:
         for place, (word, holder) in deed.items():
             self._words[place] = word
             self._holders[place] = holder
+
+    def deed_rows(self):
+        """The change rows of the innermost deed so far."""
+        deed = self._deeds[-1]
+        rows = [(place,) + deed[place] + (self._words[place], self._holders[place]) for place in sorted(list(deed))]
+        return [row for row in rows if row[1:3] != row[3:]]
 
     def _change(self, place, word, holder):
         """Changes a place within the innermost deed, which remembers how the place was."""

@@ -123,6 +123,13 @@ class Heap:
         self._mend_rover()
         return (start, n - 2)
 
+    def pass_to(self, start, holder, taker):
+        """Passes a payload on to a user with its words and returns its span."""
+        pieces = self.pieces()
+        size = pieces[index_of(pieces, start)][1] - 2
+        self._ground.pass_on(start, size, holder, taker)
+        return (start, size)
+
     def resize(self, start, holder, size, *, align=1):
         """Gives the payload another size, in place if it can, and returns its new span."""
         need_whole(start, 0, self._ground.top - 1, "start")

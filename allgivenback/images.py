@@ -91,6 +91,16 @@ def changes(before, after):
     return rows
 
 
+def put_rows(words, holders, rows):
+    """Puts the new words and holders of change rows into two lists; False at the first row that does not fit."""
+    for place, word, holder, new_word, new_holder in rows:
+        if place >= len(words) or words[place] != word or holders[place] != holder:
+            return False
+        words[place] = new_word
+        holders[place] = new_holder
+    return True
+
+
 def apply_changes(image, rows):
     """The image with the new words and holders of the rows, which must fit it."""
     need(is_image(image), "image")
@@ -98,10 +108,7 @@ def apply_changes(image, rows):
     width, fill, old_words, old_holders = image
     words = list(old_words)
     holders = list(old_holders)
-    for place, word, holder, new_word, new_holder in rows:
-        need(place < len(words) and words[place] == word and holders[place] == holder, "rows")
-        words[place] = new_word
-        holders[place] = new_holder
+    need(put_rows(words, holders, rows), "rows")
     return (width, fill, tuple(words), tuple(holders))
 
 
