@@ -1,6 +1,7 @@
 """Slow plain models of what works in beds, written from the points alone."""
 
 from tests.helpers import Refused
+from tests.test_moves import plain_least, plain_rows
 
 
 def plain_broken(image, start, size):
@@ -206,3 +207,101 @@ class PlainRegion:
         self.items = [row for row in self.items if row[0] < mark]
         self.payload = {place: cell for place, cell in self.payload.items() if place < mark}
         return sum(used for _, _, used in gone)
+
+
+class PlainHandles:
+    """Slow handles: for each used one the first place of its parcel, its pin and its payload's words and holders."""
+
+    def __init__(self, image, start, size, slots):
+        self.base, self.start, self.size, self.slots = image, start, size, slots
+        self.used = {}
+
+    def image(self):
+        width, fill, words, holders = self.base
+        words, holders = list(words), list(holders)
+        for place in range(self.start, self.start + self.size):
+            words[place], holders[place] = fill, 26
+        words[self.start] = self.slots
+        for handle in range(1, self.slots + 1):
+            words[self.start + handle] = self.used[handle][0] if handle in self.used else 0
+        for handle, (place, pinned, cells) in self.used.items():
+            words[place], words[place + 1] = 2 * handle + pinned, len(cells)
+            for k, (word, holder) in enumerate(cells):
+                words[place + 2 + k], holders[place + 2 + k] = word, holder
+        return (width, fill, tuple(words), tuple(holders))
+
+    def layout(self):
+        rows = sorted((place, len(cells) + 2, pinned) for place, pinned, cells in self.used.values())
+        return (self.start + 1 + self.slots, self.start + self.size, rows)
+
+    def handed(self):
+        return sorted((place + 2, len(cells), cells[0][1]) for place, _, cells in self.used.values())
+
+    def take(self, size, holder):
+        free = [handle for handle in range(1, self.slots + 1) if handle not in self.used]
+        if not free:
+            raise Refused("NoRoom", ("table", self.slots))
+        plan = plain_least(*self.layout(), size + 2)
+        if plan is None:
+            raise Refused("NoRoom", ("handles", plain_rows(*self.layout())))
+        self.move(plan[0])
+        self.used[free[0]] = [plan[1], False, [[self.base[1], holder] for _ in range(size)]]
+        return free[0]
+
+    def move(self, moves):
+        targets = {start: target for start, target, _ in moves}
+        for row in self.used.values():
+            row[0] = targets.get(row[0], row[0])
+
+    def parcel(self, handle):
+        if handle not in self.used:
+            raise Refused("Unknown", "handle")
+        return self.used[handle]
+
+    def cell(self, handle, offset, holder):
+        place, _, cells = self.parcel(handle)
+        if offset >= len(cells):
+            raise Refused("Unknown", "offset")
+        if cells[offset][1] != holder:
+            raise Refused("NotHeld", place + 2 + offset, cells[offset][1])
+        return cells[offset]
+
+    def read(self, handle, offset, holder):
+        return self.cell(handle, offset, holder)[0]
+
+    def write(self, handle, offset, word, holder):
+        self.cell(handle, offset, holder)[0] = word
+
+    def whole(self, handle, holder):
+        row = self.parcel(handle)
+        for k, (_, found) in enumerate(row[2]):
+            if found != holder:
+                raise Refused("NotHeld", row[0] + 2 + k, found)
+        return row
+
+    def pin(self, handle, holder):
+        self.whole(handle, holder)[1] = True
+
+    def unpin(self, handle, holder):
+        self.whole(handle, holder)[1] = False
+
+    def span_at(self, handle):
+        place, _, cells = self.parcel(handle)
+        return (place + 2, len(cells))
+
+    def give_back(self, handle, holder):
+        self.whole(handle, holder)
+        span = self.span_at(handle)
+        del self.used[handle]
+        return span
+
+    def compact(self):
+        low, moved, moves = self.layout()[0], 0, []
+        for start, size, pinned in self.layout()[2]:
+            if not pinned and start != low:
+                moves.append((start, low, size))
+                moved += size
+                start = low
+            low = start + size
+        self.move(moves)
+        return moved
