@@ -3,27 +3,27 @@
 from allgivenback.basics import Broken, StoreError
 
 
-def as_deed(ground, work):
-    """Does the work as one deed of the ground and returns what it returns; a refusal cancels the deed."""
+def begun(ground, work):
+    """Begins a deed, does the work and returns what it returns; a refusal cancels the deed."""
     ground.begin()
     try:
-        result = work()
+        return work()
     except StoreError:
         ground.cancel()
         raise
-    # A commit that is cut has cancelled the deed itself, so it stands outside of the try.
+
+
+def as_deed(ground, work):
+    """Does the work as one deed of the ground and returns what it returns; a refusal cancels the deed."""
+    result = begun(ground, work)
+    # A commit that is cut has cancelled the deed itself.
     ground.commit()
     return result
 
 
 def as_trial(ground, work):
     """Does the work, takes all that it changed back and returns what it returned."""
-    ground.begin()
-    try:
-        result = work()
-    except StoreError:
-        ground.cancel()
-        raise
+    result = begun(ground, work)
     ground.cancel()
     return result
 

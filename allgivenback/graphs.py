@@ -126,7 +126,9 @@ class Graph:
     def _join_holes(self):
         """Makes one hole of holes that touch."""
         low = None
-        for place, _, is_node in self.parts() + [(self._end, 0, True)]:
+        # The end of the bed ends the last hole as a node would.
+        parts = self.parts() + [(self._end, 0, True)]
+        for place, _, is_node in parts:
             if is_node and low is not None:
                 self.put_hole(low, place)
                 low = None

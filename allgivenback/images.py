@@ -101,15 +101,23 @@ def put_rows(words, holders, rows):
     return True
 
 
+def image_after(image, steps):
+    """The image with several lists of change rows applied, one after the other, or None if one does not fit."""
+    width, fill, old_words, old_holders = image
+    words = list(old_words)
+    holders = list(old_holders)
+    if not all([put_rows(words, holders, rows) for rows in steps]):
+        return None
+    return (width, fill, tuple(words), tuple(holders))
+
+
 def apply_changes(image, rows):
     """The image with the new words and holders of the rows, which must fit it."""
     need(is_image(image), "image")
     need(is_changes(rows), "rows")
-    width, fill, old_words, old_holders = image
-    words = list(old_words)
-    holders = list(old_holders)
-    need(put_rows(words, holders, rows), "rows")
-    return (width, fill, tuple(words), tuple(holders))
+    after = image_after(image, [rows])
+    need(after is not None, "rows")
+    return after
 
 
 def invert(rows):

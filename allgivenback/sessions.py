@@ -1,10 +1,10 @@
 """Sessions: they run requests over a store, remember names, keep records and take them back."""
 
-from allgivenback.basics import BadValue, Cut, StoreError, Unknown, is_user
+from allgivenback.basics import Cut, StoreError, Unknown, is_user
 from allgivenback.checks import is_row, need
 from allgivenback.deeds import as_deed, as_trial
 from allgivenback.ground import is_budget
-from allgivenback.images import is_changes, is_image, put_rows
+from allgivenback.images import image_after, is_changes, is_image
 from allgivenback.names import AREA, SPAN, thing_of
 from allgivenback.notation import MOST_REQUESTS, are_requests, is_request
 from allgivenback.store import Store
@@ -179,10 +179,6 @@ def replayed(image, records):
     """The image with the rows of the records applied, one after the other."""
     need(is_image(image), "image")
     need(fits_records(records), "records")
-    width, fill, old_words, old_holders = image
-    words = list(old_words)
-    holders = list(old_holders)
-    for _, _, rows in records:
-        if not put_rows(words, holders, rows):
-            raise BadValue("records")
-    return (width, fill, tuple(words), tuple(holders))
+    after = image_after(image, [record[2] for record in records])
+    need(after is not None, "records")
+    return after

@@ -189,6 +189,17 @@ class MarkingTest(CollectBase):
         self.assertEqual(len(self.collect("collect_marking")), 8)
         self.assertEqual(self.ground.image(), self.new)
 
+    def test_place_0_is_no_node(self):
+        # The words from place 0 on look like a node that names the ring, but 0 stands for no node.
+        self.make(40, start=20)
+        ring = self.lone_ring(2)
+        kept = self.play("make", 0, [0, 0], [])
+        for place, word in ((0, 1 + 32 * 2), (2, ring[0]), (3, ring[1])):
+            self.ground.poke(place, word)
+        self.assertEqual([ways(self.nodes), rings(self.nodes)], [[(kept, (0,))], [ring]])
+        self.assertEqual(shape(self.nodes), ((0,) + (None,) * 7, [((0,), (None, None), ())]))
+        self.assertEqual(collect_marking(self.nodes), ring)
+
     def test_two_rings_with_a_common_node(self):
         self.make(60)
         middle = self.play("make", 0, [0, 0], [])
