@@ -55,8 +55,7 @@ def free_rest(graph):
     freed = [node for node in graph.nodes() if node not in reached]
     for node in freed:
         for name in graph.names(node):
-            if name in reached:
-                graph.add_count(name, -1)
+            graph.add_count(name, -1)
     graph.free(freed)
     return freed
 

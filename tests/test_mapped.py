@@ -83,6 +83,21 @@ class MakingTest(Base):
             self.assertEqual(words, (4, 0) * pages + (9,) * (len(words) - 2 * pages))
             self.assertEqual(self.ground.image()[3][start:start + len(words)], (27,) * len(words))
 
+    def test_labels(self):
+        for label in (1, 900):
+            self.make(label=label, slow=2)
+            for user in range(1, 9):
+                self.map(user, 1)
+            self.play("store", 8, 3, 5)
+            self.play("share", 8, 0, 1, 1)
+            self.play("put_out", 1, 16, 1)
+            self.play("store", 2, 3, 6)
+            found = sorted(block[2] for block in Buddies(self.ground).given())
+            self.assertEqual(found, list(range(label, label + 10)))
+            for user, count in ((1, 2), *[(user, 1) for user in range(2, 9)]):
+                self.play("release", user, 0, count)
+            self.assertEqual(self.ground.image(), self.new)
+
     def test_defaults(self):
         self.make()
         self.assertEqual(len(self.spaces.table(1)), 8)

@@ -188,6 +188,24 @@ class RouteTest(StoreBase):
         self.assertEqual(self.play("heap_beds"), [])
         self.assertEqual(self.ground.image(), self.new)
 
+    def test_greatest_orders(self):
+        self.make(count=256, zones=((180, 0, 0),), arena=8, heap=6)
+        span = self.play("take", 256, 1, align=16)
+        self.assertEqual([self.part(span), self.store.heap_beds()[0][1]], ["piece", 1024])
+        self.assertEqual(self.resize(span, 200), (span[0], 200))
+        # No ground has a free block of order 8, since page 0 is a map page.
+        for size in (257, 4096):
+            told = self.play("take", size, 1)
+            self.assertEqual(told[1][0][:3], ("extents", 200, ()))
+            self.assertIs(is_no_room(self.ground.image(), told[1][0], size, arena=8, heap=6), True)
+        for size, align in ((4097, 1), (GREATEST, 1), (257, 8192), (GREATEST, 1073741824)):
+            self.assertEqual(self.play("take", size, 1, align=align), ("Unknown", ("size",)))
+        self.assertEqual(self.play("take", 257, 1, align=4096)[0], "NoRoom")
+        self.finish()
+
+    def resize(self, span, size):
+        return self.play("resize", span[0], 1, size)
+
     def test_urgent(self):
         self.make(zones=((8, 8, 0),), heap=1, arena=2)
         for size in (3, 16, 20):
