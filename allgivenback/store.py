@@ -11,7 +11,7 @@ from allgivenback.layout import given_in, has_map
 from allgivenback.mapped import MOST_VIRTUAL, Mapped, is_slow_zone
 from allgivenback.marks import first_broken_mark, is_no_piece
 from allgivenback.slabs import MOST_SPARE
-from allgivenback.slots import class_of, class_sizes
+from allgivenback.slots import class_of
 from allgivenback.spans import MOST_ALIGN, MOST_ORDER, MOST_PLACE, need_align
 
 EXTENT_LABEL = 200
@@ -139,9 +139,8 @@ class Store:
             return (WHOLE, self.extents, low, label)
         if label == HEAP_LABEL:
             return (PIECE, Heap(self._ground, low, self._ground.width << order), low, label)
-        if FIRST_LABEL <= label < FIRST_LABEL + len(class_sizes(self._ground.width)):
-            return (SLOT, self.drawers, low, label)
-        raise Unknown("start")
+        # The drawers know their own labels and refuse all others.
+        return (SLOT, self.drawers, low, label)
 
     def give_back(self, start, holder):
         """Gives a span back to its part and returns it."""

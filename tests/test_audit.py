@@ -91,7 +91,7 @@ class SoundTest(Base):
         self.assertEqual(audit(ground.image()), [])
 
     def test_defaults(self):
-        ground = Ground(60, 16)
+        ground = Ground(60, 16, fill=9)
         store = Store(start_buddies(ground, [(40, 0, 0)]))
         store.take(3, 1)
         store.take(16, 1)
@@ -100,7 +100,8 @@ class SoundTest(Base):
         image = ground.image()
         self.assertEqual(audit(image), store.handed())
         self.assertEqual(audit(image, arena=3, heap=2, pages=8), store.handed())
-        self.assertEqual(len(spaces_in(image)), 8)
+        self.assertIsNone(first_broken_word(image))
+        self.assertEqual(spaces_in(image), [(1, page, 1, 0, 0) for page in range(8)])
 
     def test_random_stores(self):
         for seed in range(12):
@@ -201,25 +202,35 @@ class BrokenTest(Base):
                 self.check(after, orders)
 
     def test_free_buddies(self):
-        ground = Ground(40, 16)
-        buddies = start_buddies(ground, [(16, 0, 0)])
-        first = ground.word_at(2)
+        ground = Ground(100, 16)
+        start_buddies(ground, [(66, 0, 0)])
         image = ground.image()
-        codes = {page: image[2][6 + 4 * page] for page in range(40) if image[2][6 + 4 * page]}
         self.assertIsNone(first_broken_map(image))
-        page, order = next((page, code - 1) for page, code in codes.items() if code > 1)
-        half = page + 2 ** (order - 1)
-        split = with_place(with_place(image, 6 + 4 * page, order), 6 + 4 * half, order)
-        self.assertEqual(first_broken_map(split), (6 + 4 * half, order, 0))
-        self.assertGreater(first, 0)
-        # If one of the two is given, both may stand.
-        given = with_place(with_place(split, 6 + 4 * page, 20 + order), 7 + 4 * page, 5)
-        self.assertIsNone(first_broken_map(given))
-        given = with_place(with_place(split, 6 + 4 * half, 20 + order), 7 + 4 * half, 5)
-        self.assertIsNone(first_broken_map(given))
-        self.assertEqual(first_broken_map(with_place(given, 7 + 4 * half, 0)), (7 + 4 * half, 0, 0))
-        self.assertEqual(first_broken_map(with_place(given, 7 + 4 * half, 1000)), (7 + 4 * half, 1000, 0))
-        self.assertEqual(list(buddies.walk())[0][0], first)
+        row = lambda page: 6 + 4 * page
+        codes = {page: image[2][row(page)] for page in range(100) if image[2][row(page)]}
+        orders = set()
+        for page, code in codes.items():
+            if code == 1:
+                continue
+            order = code - 2
+            orders.add(order)
+            half = page + 2 ** order
+            split = with_place(with_place(image, row(page), 1 + order), row(half), 1 + order)
+            self.assertEqual(first_broken_map(split), (row(half), 1 + order, 0))
+            # If one of the two is given, both may stand.
+            for each in (page, half):
+                given = with_place(with_place(split, row(each), 21 + order), row(each) + 1, 999)
+                self.assertIsNone(first_broken_map(given))
+                for label in (0, 1000):
+                    self.assertEqual(first_broken_map(with_place(given, row(each) + 1, label)), (row(each) + 1, label, 0))
+            # A free block behind a free one of another order is no buddy of it.
+            if order > 0:
+                parts = with_place(with_place(split, row(half), order), row(half + 2 ** (order - 1)), order)
+                self.assertEqual(first_broken_map(parts), (row(half + 2 ** (order - 1)), order, 0))
+                given = with_place(with_place(parts, row(half + 2 ** (order - 1)), 20 + order), row(
+                    half + 2 ** (order - 1)) + 1, 5)
+                self.assertIsNone(first_broken_map(given))
+        self.assertGreaterEqual(orders, {0, 2, 4})
 
     def test_free_blocks_side_by_side_in_two_zones(self):
         # Pages 11 | 12 would be no buddies, but 12 | 13 are: the border of the zones lies between them.
@@ -297,6 +308,19 @@ class BrokenTest(Base):
             start, _ = buddies.take(order, 409, 27)
             told = self.check(ground.image(), {"pages": pages})
             self.assertEqual(told, (6 + 4 * (start // 16), 21 + order, 21 + due))
+
+    def test_further_words_of_a_table(self):
+        for pages, order in ((1, 0), (7, 0), (9, 1), (17, 2), (31, 2)):
+            ground = Ground(40, 16, fill=5)
+            store = Store(start_buddies(ground, [(16, 0, 0)]), pages=pages)
+            store.spaces.reserve(8, pages)
+            start, size = Buddies(ground).given(409)[0][0] * 16, 16 << order
+            image = ground.image()
+            self.assertIsNone(self.check(image, {"pages": pages}))
+            self.assertEqual(spaces_in(image, pages=pages), [(8, page, 1, 0, 0) for page in range(pages)])
+            for place in range(start + 2 * pages, start + size):
+                after = with_place(image, place, 4)
+                self.assertEqual(self.check(after, {"pages": pages}), (place, 4, 5))
 
     def test_frame_of_another_order(self):
         ground = Ground(40, 16)

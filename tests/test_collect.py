@@ -105,6 +105,7 @@ class WayTest(CollectBase):
         for node in (0, 1, 2, -1, 64, HUGE, -HUGE):
             self.assertIs(is_way(self.nodes, node, (2, 0, 0)), False)
         self.assertIs(is_way(self.nodes, 0, (0,)), False)
+        self.assertIs(is_way(self.nodes, 0, ()), False)
         self.assertIs(is_way(self.nodes, 0, (2, 0, 1)), False)
 
     def test_long_way(self):

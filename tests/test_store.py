@@ -102,6 +102,27 @@ class MakingTest(StoreBase):
         self.assertIsNone(told_by(Store, buddies, **low))
         self.assertEqual(state(ground), before)
 
+    def test_defaults(self):
+        self.make(count=80, zones=((56, 0, 0),))
+        spans = [self.play("take", 8, 1) for _ in range(9)]
+        self.assertEqual(len(self.store.drawers.starts_in(1, 5)), 1)
+        for span in spans:
+            self.play("give_back", span[0], 1)
+        self.store.drawers.flush(1)
+        self.plain.drawers.flush(1)
+        self.assertEqual(len(Buddies(self.ground).given(105)), 1)
+        self.assertEqual(self.store.settle(), self.plain.settle())
+        piece = self.play("take", 16, 1)
+        self.assertEqual(self.store.heap_beds(), [(piece[0] - 3, 64)])
+        self.play("give_back", piece[0], 1)
+        extent = self.play("take", 128, 1)
+        self.assertEqual(self.play("take", 129, 1), ("Unknown", ("size",)))
+        self.play("give_back", extent[0], 1)
+        self.assertEqual([self.play("tick") for _ in range(4)], [[], [], [], [extent[0] // 16]])
+        self.assertEqual(len(self.store.spaces.table(1)), 8)
+        self.assertEqual(told_by(self.store.spaces.put_out, 1, 0, 1), ("Unknown", ("slow",)))
+        self.assertEqual(self.ground.image(), self.new)
+
     def test_arguments_reach_the_keepers(self):
         self.make(count=90, zones=((30, 0, 0), (30, 0, 0), (3, 3, 0)), lot=3, spare=0, arena=1, limit=0, heap=1,
                   pages=2, slow=3, zone=2)
@@ -383,6 +404,18 @@ class GiveBackTest(StoreBase):
         self.ground.poke(self.slot[0] - 1, 7)
         self.assertEqual(self.store.first_broken(), (self.slot[0] - 1, 7, 60001))
 
+    def test_second_heap_broken(self):
+        self.make(heap=1)
+        for _ in range(3):
+            self.play("take", 8, 1, align=8)
+        beds = self.store.heap_beds()
+        self.assertEqual(len(beds), 3)
+        self.ground.poke(beds[1][0], 9)
+        self.assertEqual(self.store.first_broken(), (beds[1][0], 9, 32))
+        self.ground.poke(beds[2][0], 8)
+        self.assertEqual(self.store.first_broken(), (beds[1][0], 9, 32))
+        self.assertEqual(told_by(self.store.handed), ("Broken", (beds[1][0], 9, 32)))
+
     def test_lower_heap_is_asked_first(self):
         self.make(heap=2)
         spans = [self.play("take", 12, 1) for _ in range(8)]
@@ -491,6 +524,14 @@ class ResizeTest(StoreBase):
         self.assertEqual(self.play("resize", extent[0], 1, 4)[1], 4)
         self.assertEqual(self.play("resize", slot[0], 1, 32)[1], 32)
 
+    def test_resize_is_not_urgent(self):
+        self.make(count=20, fill=2, zones=((6, 4, 0),), heap=1, arena=1)
+        slot = self.take(3)
+        told = self.play("resize", slot[0], 1, 20)
+        self.assertEqual(told[0], "NoRoom")
+        self.assertEqual(told[1][0][3], ((1, "few", 5),))
+        self.assertFalse(is_refusal(self.play("take", 20, 1, urgent=True)))
+
     def test_resize_settles(self):
         self.make(count=20, fill=2, zones=((4, 0, 0),), heap=1, arena=1, spare=2)
         slot = self.take(8)
@@ -552,6 +593,46 @@ class PaperTest(StoreBase):
         self.assertIs(self.judge(image, paper, 20, arena=3), False)
         for label in (199, 201, 300, True, "200"):
             self.assertIs(self.judge(image, ("extents", label) + paper[2:], 20, arena=2), False)
+
+    def test_label_of_the_extents(self):
+        self.make(count=30, zones=((3, 0, 0),), arena=2)
+        told = self.play("take", 20, 1)
+        inner = ((1, "few", 3),)
+        self.assertEqual(told, ("NoRoom", (("extents", 200, (), inner),)))
+        for label in (1, 199, 200, 201, 300, 999):
+            paper = ("extents", label, (), inner)
+            self.assertIs(self.judge(self.new, paper, 20, arena=2), label == 200)
+
+    def test_defaults_of_the_judge(self):
+        self.make(count=40, zones=((3, 3, 0), (7, 0, 1)), zone=1)
+        # An arena has 8 pages and a heap has 4, and a call that is not urgent leaves 3 of 3 pages.
+        for size, align, paper in (
+                (20, 1, ("extents", 200, (), ((1, "few", 3),))), (16, 16, ("heaps", (), ((1, "few", 3),)))):
+            self.assertEqual(self.play("take", size, 1, align=align), ("NoRoom", (paper,)))
+            self.assertIs(self.judge(self.new, paper, size, align=align), True)
+            self.assertIs(self.judge(self.new, paper, size, align=align, zone=2), False)
+        self.make(count=40, zones=((3, 0, 0),))
+        paper = ("heaps", (), ((1, "few", 3),))
+        self.assertIs(self.judge(self.new, paper, 16, align=16), True)
+        self.assertIs(self.judge(self.new, paper, 16, align=16, heap=1), False)
+        for size, align, name, order in ((100, 1, "arena", 3), (16, 16, "heap", 2)):
+            self.make(count=40, zones=((24, 0, 0),))
+            paper, image = self.exhaust(size, align)
+            self.assertGreater(len(paper[1 if name == "heap" else 2]), 0)
+            self.assertIs(self.judge(image, paper, size, align=align), True)
+            for other in range(1, 7):
+                self.assertIs(self.judge(image, paper, size, align=align, **{name: other}), other == order)
+        # With arenas of one page there is no extent of more places.
+        self.make(count=40, zones=((3, 3, 0),), arena=0)
+        told = self.play("take", 9, 1, align=32)
+        self.assertEqual(told, ("Unknown", ("size",)))
+        told = self.play("take", 16, 1)
+        self.assertEqual(told, ("NoRoom", (("heaps", (), ((1, "few", 3),)),)))
+        self.make(count=40, zones=((3, 3, 0),), arena=0, heap=1)
+        told = self.play("take", 16, 1)
+        self.assertEqual(told, ("NoRoom", (("extents", 200, (), ((1, "few", 3),)),)))
+        self.assertIs(self.judge(self.new, told[1][0], 16, arena=0, heap=1), True)
+        self.assertIs(self.judge(self.new, told[1][0], 17, arena=0, heap=1), False)
 
     def test_class_of_the_route(self):
         self.make(count=30, zones=((1, 0, 0),))

@@ -112,6 +112,9 @@ class TwinTest(unittest.TestCase):
 
     def test_fill(self):
         self.assertEqual(Twin().handed(), [])
+        twin = Twin()
+        twin.take((3, 2), 8)
+        self.assertEqual(twin.words_of(3), [0, 0])
         for fill in (0, 65535):
             twin = Twin(fill=fill)
             self.assertIsNone(twin.take((3, 4), 1))
@@ -372,6 +375,15 @@ class RunTest(unittest.TestCase):
         span = (("take", 1, "y", 32, 1), ("done", (16, 32)))
         self.assertIs(judged([MAP, span, (("map", 2, "m", 2), ("done", (16, 32)))]), True)
         self.assertIs(judged([span, (("take", 2, "y", 32, 1), ("done", (16, 32)))]), False)
+
+    def test_each_user(self):
+        for user in range(1, 9):
+            taker = user % 8 + 1
+            rows = [
+                (("take", user, "x", 1, 1), ("done", (user, 1))), (("map", user, "m", 1), ("done", (0, 16))),
+                (("pass", user, "x", taker), ("done", (user, 1))), (("share", user, "m", taker), ("done", (16, 16))),
+                (("get", taker, "x", 0), ("done", 3)), (("load", taker, "m", 15), ("done", 3))]
+            self.assertIs(judged(rows), True)
 
     def test_great_spans(self):
         for size, due in ((16384, True), (16385, False)):
