@@ -16,13 +16,13 @@ def least_ways(graph):
     found = {}
     waiting = [((root,), node) for root, node in enumerate(graph.roots())]
     while waiting:
-        behind = []
-        # The ways of one length are looked at in ascending order, and so those behind them ascend, too.
+        met = []
         for way, node in waiting:
             if node != 0 and node not in found:
                 found[node] = way
-                behind.extend([(way + (field,), name) for field, name in enumerate(graph.names(node))])
-        waiting = behind
+                met.append(node)
+        # The ways of one length are looked at in ascending order, and so those behind them ascend, too.
+        waiting = [(found[node] + (field,), name) for node in met for field, name in enumerate(graph.names(node))]
     return found
 
 

@@ -17,6 +17,67 @@ NO_NAMES = set("""register mro elements open input law attrgetter breakpoint com
     help id locals os quit type vars sys""".split())
 NO_WORDS = re.compile(r"\b(type|typing|enum|Enum|Flag|Generic|Protocol|ABC|namedtuple|_wall\w*|_record|_outside|_cold)\b")
 
+CHANGING = set("append clear extend insert pop remove reverse setdefault sort update add discard".split())
+THROUGH = ("enumerate", "zip", "reversed")
+VIEWS = ("items", "keys", "values")
+COMPREHENSIONS = (ast.ListComp, ast.SetComp, ast.DictComp)
+
+
+def told_by_value(value):
+    """The names, attributes and items that a value may be, as texts; a copy such as `list(xs)` is none of them."""
+    if isinstance(value, (ast.Name, ast.Attribute)):
+        return {ast.unparse(value)}
+    if isinstance(value, ast.Subscript):
+        return set() if isinstance(value.slice, ast.Slice) else {ast.unparse(value)}
+    if isinstance(value, ast.IfExp):
+        return told_by_value(value.body) | told_by_value(value.orelse)
+    if isinstance(value, ast.BoolOp):
+        return set().union(*[told_by_value(each) for each in value.values])
+    if isinstance(value, ast.Call) and isinstance(value.func, ast.Name) and value.func.id in THROUGH:
+        return set().union(*[told_by_value(each) for each in value.args])
+    if isinstance(value, ast.Call) and isinstance(value.func, ast.Attribute) and value.func.attr in VIEWS:
+        return told_by_value(value.func.value)
+    return set()
+
+
+def same_values(function, names):
+    """The names that come to mean one of these values anywhere in the function, whichever way they are assigned."""
+    pairs = []
+    for node in ast.walk(function):
+        for target in node.targets if isinstance(node, ast.Assign) else []:
+            both = isinstance(target, ast.Tuple) and isinstance(node.value, ast.Tuple)
+            parts = zip(target.elts, node.value.elts) if both else [(target, node.value)]
+            pairs += [{ast.unparse(left), name} for left, right in parts for name in told_by_value(right)]
+    found, count = set(names), 0
+    while len(found) > count:
+        count = len(found)
+        found = found.union(*[pair for pair in pairs if pair & found])
+    return found
+
+
+def changed_in(rows):
+    """Tuples (text, line) of all that is changed in place in these rows."""
+    for node in [each for row in rows for each in ast.walk(row)]:
+        if isinstance(node, ast.Call) and isinstance(node.func, ast.Attribute) and node.func.attr in CHANGING:
+            yield (ast.unparse(node.func.value), node.lineno)
+        elif isinstance(node, ast.Subscript) and not isinstance(node.ctx, ast.Load):
+            yield (ast.unparse(node.value), node.lineno)
+        elif isinstance(node, ast.AugAssign):
+            yield (ast.unparse(node.target), node.lineno)
+
+
+def changed_while_walked(tree):
+    """The lines of a file at which a loop or a comprehension changes what it walks, by this or by another name."""
+    lines = set()
+    for function in [node for node in ast.walk(tree) if isinstance(node, ast.FunctionDef)]:
+        for node in ast.walk(function):
+            walked = [node.iter] if isinstance(node, ast.For) else []
+            walked += [each.iter for each in node.generators] if isinstance(node, COMPREHENSIONS) else []
+            names = same_values(function, set().union(*[told_by_value(each) for each in walked]))
+            rows = node.body if isinstance(node, ast.For) else [node]
+            lines |= {line for name, line in changed_in(rows if walked else []) if name in names}
+    return sorted(lines)
+
 
 class LanguageTest(unittest.TestCase):
     def trees(self):
@@ -80,6 +141,37 @@ class LanguageTest(unittest.TestCase):
             stored = {
                 each.attr for each in ast.walk(node) if isinstance(each, ast.Attribute) and isinstance(each.ctx, ast.Store)}
             self.assertEqual(methods & stored, set(), node.name)
+
+    def test_loops_do_not_change_what_they_walk(self):
+        for path, tree in self.trees():
+            self.assertEqual(changed_while_walked(tree), [], path)
+
+    def test_loops_that_change_what_they_walk_are_found(self):
+        wrong = (
+            "for x in xs:|  xs.append(x)", "for x in xs:|  xs[0] = x", "for x in xs:|  del xs[0]",
+            "for x in xs:|  xs += [x]", "for k, x in enumerate(xs):|  xs.pop()",
+            "for x, y in zip(ys, xs):|  xs.clear()", "for x in reversed(xs):|  xs.sort()",
+            "for k, x in xs.items():|  xs.update({})", "for x in self.xs:|  self.xs.insert(0, x)",
+            "for x in xs or ys:|  ys.remove(x)", "for x in xs if ys else zs:|  zs.append(x)",
+            "ys = xs|for x in xs:|  ys.append(x)", "ys = xs or zs|for x in ys:|  zs.pop()",
+            "for x in self.xs[0]:|  self.xs[0].append(x)",
+            "ys, zs = xs, 1|for x in xs:|  if x:|    ys.reverse()",
+            "while xs:|  ys = []|  for x in xs:|    ys.extend(x)|  xs = ys", "ys = [xs.pop() for x in xs]")
+        for text in wrong:
+            self.assertEqual(len(self.lines_of(text)), 1, text)
+
+    def test_loops_that_change_another_list_are_not_found(self):
+        right = (
+            "for x in list(xs):|  xs.append(x)", "for x in xs:|  ys.append(x)",
+            "ys = list(xs)|for x in xs:|  ys.pop()", "ys = xs[:]|for x in xs:|  ys.clear()",
+            "for x in xs:|  x = x + 1|xs.append(1)", "for x in xs[1:]:|  xs.append(x)",
+            "while xs:|  ys = []|  for x in xs:|    ys.append(x)|  xs = [(y, 1) for y in ys]")
+        for text in right:
+            self.assertEqual(self.lines_of(text), [], text)
+
+    def lines_of(self, text):
+        """The lines found in a function with these rows, which are parted by strokes."""
+        return changed_while_walked(ast.parse("def play(self, xs, ys, zs):\n  " + text.replace("|", "\n  ")))
 
     def test_small_things(self):
         for path, tree in self.trees():
